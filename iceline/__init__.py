@@ -1,0 +1,1 @@
+"""Online icebreaker dispatch on a line: double coverage beside the greedy algorithm."""
