@@ -1,1 +1,1 @@
-"""Online icebreaker dispatch on a line: double coverage beside the greedy algorithm."""
+"""Online icebreaker dispatch on a line: double coverage beside greedy and the optimal offline plan."""

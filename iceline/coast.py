@@ -6,7 +6,7 @@ CREATE = 0
 NO_INSTANCE = -11
 
 # How many parameters follow the number of each call, in the order of those numbers.
-PARAMETER_COUNTS = (0, 1, 1, 2, 1, 0, 0, 0, 0, 0, 0, 0, 0)
+PARAMETER_COUNTS = (0, 1, 1, 2, 1, 0, 0, 0, 0, 0, 0, 0, 0, 0, 0, 0, 0, 0, 1, 1, 1, 0, 1, 1, 0)
 
 
 def answers(calls):

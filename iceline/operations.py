@@ -4,9 +4,10 @@ Each operation takes the instance and the list of its parameters, and gives back
 numbers that it answers; a refusal is a list of its code alone, and leaves the instance unchanged.
 """
 
-from iceline.distance import course_distance, moved_between
+from iceline.distance import course_distance, course_distances, moved_between, pair_distances
 from iceline.double_coverage import coverage_course, covered
 from iceline.greedy import greedy_course
+from iceline.offline import smallest_distance, smallest_plan
 
 LAST_POSITION = 99
 MOST_ICEBREAKERS = 3
@@ -31,17 +32,51 @@ def current(instance):
     return coverage_course(instance.starts, instance.targets)[-1]
 
 
+def coverage_total(starts, targets):
+    """The total distance that double coverage moves."""
+    return course_distance(coverage_course(starts, targets))
+
+
+def greedy_total(starts, targets):
+    """The total distance that the greedy algorithm moves."""
+    return course_distance(greedy_course(starts, targets))
+
+
+def served(instance, target):
+    """The distance that double coverage moves for one more request, followed by the positions behind it."""
+    before = current(instance)
+    after = covered(before, target)
+    return [moved_between(before, after)] + after
+
+
 def counted(numbers):
     """A list's length, followed by what it holds."""
     return [len(numbers)] + numbers
 
 
-def add_icebreaker(instance, given):
-    position = given[0]
+def start_refusal(instance, position):
+    """The refusal of one more icebreaker at the position, or None."""
     if position > LAST_POSITION:
         return [OFF_THE_COAST]
     if len(instance.starts) >= MOST_ICEBREAKERS:
         return [FULL]
+    return None
+
+
+def target_refusal(instance, target):
+    """The refusal of a target, however many requests there are already, or None."""
+    if target > LAST_POSITION:
+        return [OFF_THE_COAST]
+    if len(instance.starts) == 0:
+        return [NONE_YET]
+    return None
+
+
+def add_icebreaker(instance, given):
+    position = given[0]
+    refusal = start_refusal(instance, position)
+    if refusal is not None:
+        return refusal
     instance.starts.append(position)
     instance.targets = []
     return [len(instance.starts) - 1]
@@ -71,16 +106,14 @@ def set_start(instance, given):
 
 def request(instance, given):
     target = given[0]
-    if target > LAST_POSITION:
-        return [OFF_THE_COAST]
-    if len(instance.starts) == 0:
-        return [NONE_YET]
+    refusal = target_refusal(instance, target)
+    if refusal is not None:
+        return refusal
     if len(instance.targets) >= MOST_REQUESTS:
         return [FULL]
-    before = current(instance)
-    after = covered(before, target)
+    answer = served(instance, target)
     instance.targets.append(target)
-    return [moved_between(before, after)] + after
+    return answer
 
 
 def undo_request(instance, given):
@@ -108,19 +141,106 @@ def start_positions(instance, given):
 
 
 def total_distance(instance, given):
-    return [course_distance(coverage_course(instance.starts, instance.targets))]
+    return [coverage_total(instance.starts, instance.targets)]
 
 
 def greedy_distance(instance, given):
     if len(instance.starts) == 0:
         return [NONE_YET]
-    return [course_distance(greedy_course(instance.starts, instance.targets))]
+    return [greedy_total(instance.starts, instance.targets)]
 
 
 def greedy_positions(instance, given):
     if len(instance.starts) == 0:
         return [NONE_YET]
     return counted(greedy_course(instance.starts, instance.targets)[-1])
+
+
+def optimal_distance(instance, given):
+    if len(instance.starts) == 0:
+        return [NONE_YET]
+    return [smallest_distance(instance.starts, instance.targets)]
+
+
+def optimal_plan(instance, given):
+    if len(instance.starts) == 0:
+        return [NONE_YET]
+    return counted(smallest_plan(instance.starts, instance.targets))
+
+
+def competitive_bound(instance, given):
+    icebreakers = len(instance.starts)
+    if icebreakers == 0:
+        return [NONE_YET]
+    optimum = smallest_distance(instance.starts, instance.targets)
+    return [icebreakers * optimum + pair_distances(instance.starts)]
+
+
+def spread(instance, given):
+    return [pair_distances(instance.starts), pair_distances(current(instance))]
+
+
+def excess(instance, given):
+    starts = instance.starts
+    targets = instance.targets
+    if len(starts) == 0:
+        return [NONE_YET]
+    optimum = smallest_distance(starts, targets)
+    return [coverage_total(starts, targets) - optimum, greedy_total(starts, targets) - optimum]
+
+
+def preview_request(instance, given):
+    target = given[0]
+    refusal = target_refusal(instance, target)
+    if refusal is not None:
+        return refusal
+    return served(instance, target)
+
+
+def optimal_distance_with_request(instance, given):
+    target = given[0]
+    refusal = target_refusal(instance, target)
+    if refusal is not None:
+        return refusal
+    return [smallest_distance(instance.starts, instance.targets + [target])]
+
+
+def responders(instance, given):
+    target = given[0]
+    refusal = target_refusal(instance, target)
+    if refusal is not None:
+        return refusal
+    before = current(instance)
+    after = covered(before, target)
+    moved = [icebreaker for icebreaker in range(len(before)) if before[icebreaker] != after[icebreaker]]
+    return counted(moved)
+
+
+def distances_per_request(instance, given):
+    return counted(course_distances(coverage_course(instance.starts, instance.targets)))
+
+
+def saving_without_request(instance, given):
+    index = given[0]
+    targets = instance.targets
+    if index >= len(targets):
+        return [NOT_THERE]
+    distance = smallest_distance(instance.starts, targets[:index] + targets[index + 1:])
+    return [smallest_distance(instance.starts, targets) - distance, distance]
+
+
+def distances_with_icebreaker(instance, given):
+    position = given[0]
+    refusal = start_refusal(instance, position)
+    if refusal is not None:
+        return refusal
+    starts = instance.starts + [position]
+    return [smallest_distance(starts, instance.targets), coverage_total(starts, instance.targets)]
+
+
+def summary(instance, given):
+    total = coverage_total(instance.starts, instance.targets)
+    return [len(instance.starts), len(instance.targets), total]
 
 
 OPERATIONS = {
@@ -136,6 +256,18 @@ OPERATIONS = {
     10: total_distance,
     11: greedy_distance,
     12: greedy_positions,
+    13: optimal_distance,
+    14: optimal_plan,
+    15: competitive_bound,
+    16: spread,
+    17: excess,
+    18: preview_request,
+    19: optimal_distance_with_request,
+    20: responders,
+    21: distances_per_request,
+    22: saving_without_request,
+    23: distances_with_icebreaker,
+    24: summary,
 }
 
 

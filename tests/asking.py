@@ -11,6 +11,13 @@ STARTS = [9]
 TOTAL = [10]
 GREEDY = [11]
 GREEDY_POSITIONS = [12]
+OPTIMAL = [13]
+PLAN = [14]
+BOUND = [15]
+SPREAD = [16]
+EXCESS = [17]
+EACH = [21]
+SUMMARY = [24]
 
 # What an instance shows of itself.
 LOOKS = [LIST, STARTS, CURRENT, TOTAL, GREEDY_POSITIONS]
@@ -32,6 +39,26 @@ def move_start(icebreaker, position):
 
 def request(target):
     return [4, target]
+
+
+def preview(target):
+    return [18, target]
+
+
+def optimal_with(target):
+    return [19, target]
+
+
+def responders(target):
+    return [20, target]
+
+
+def without(index):
+    return [22, index]
+
+
+def with_icebreaker(position):
+    return [23, position]
 
 
 def fleet(*starts):

@@ -1,10 +1,14 @@
 """A second way to compute the answers, straight from the words of the document.
 
 It shares no code with the program: double coverage walks unit by unit, the greedy algorithm picks
-the first of a sorted list, and all is computed anew from the start positions at each call.
+the first of a sorted list, the offline plans are written out one by one, and all is computed anew
+from the start positions at each call.
 """
 
-LENGTHS = {0: 1, 1: 2, 2: 2, 3: 3, 4: 2}
+import functools
+import itertools
+
+LENGTHS = {1: 2, 2: 2, 3: 3, 4: 2, 18: 2, 19: 2, 20: 2, 22: 2, 23: 2}
 
 
 def walk(positions, target):
@@ -38,6 +42,35 @@ def played(serve, starts, targets):
     return positions, total
 
 
+def plan_distance(starts, targets, plan):
+    """The distance of one offline plan."""
+    positions = list(starts)
+    total = 0
+    for number, target in zip(plan, targets):
+        total += abs(positions[number] - target)
+        positions[number] = target
+    return total
+
+
+@functools.lru_cache(maxsize=20000)
+def best_of_all(starts, targets):
+    """The smallest distance of any offline plan, and the first plan with it in lexicographic order."""
+    found = None
+    for plan in itertools.product(range(len(starts)), repeat=len(targets)):
+        distance = plan_distance(starts, targets, plan)
+        if found is None or distance < found[0]:
+            found = distance, plan
+    return found
+
+
+def optimum(starts, targets):
+    return best_of_all(tuple(starts), tuple(targets))[0]
+
+
+def pairs_apart(positions):
+    return sum(abs(one - other) for one, other in itertools.combinations(positions, 2))
+
+
 class Model:
     def __init__(self):
         self.starts = None
@@ -54,7 +87,15 @@ class Model:
             return self.change_starts(number, given)
         if number <= 6:
             return self.change_requests(number, given)
-        return self.look(number)
+        if number <= 12:
+            return self.look(number)
+        if number in (16, 21, 24):
+            return self.measure(number)
+        if number <= 17:
+            return self.compare(number)
+        if number <= 20:
+            return self.foresee(number, given[0])
+        return self.suppose(number, given[0])
 
     def change_starts(self, number, given):
         there = number == 1 or given[0] in range(len(self.starts))
@@ -105,6 +146,54 @@ class Model:
         serve = rush if number in (11, 12) else walk
         positions, total = played(serve, self.starts, self.targets)
         return [total] if number in (10, 11) else [len(positions)] + positions
+
+    def measure(self, number):
+        positions, total = played(walk, self.starts, self.targets)
+        if number == 16:
+            return [pairs_apart(self.starts), pairs_apart(positions)]
+        if number == 24:
+            return [len(self.starts), len(self.targets), total]
+        totals = [played(walk, self.starts, self.targets[:count])[1] for count in range(len(self.targets) + 1)]
+        return [len(self.targets)] + [after - before for before, after in zip(totals, totals[1:])]
+
+    def compare(self, number):
+        if not self.starts:
+            return [-6]
+        distance, plan = best_of_all(tuple(self.starts), tuple(self.targets))
+        if number == 13:
+            return [distance]
+        if number == 14:
+            return [len(plan)] + list(plan)
+        if number == 15:
+            return [len(self.starts) * distance + pairs_apart(self.starts)]
+        return [played(serve, self.starts, self.targets)[1] - distance for serve in (walk, rush)]
+
+    def foresee(self, number, target):
+        if target not in range(100):
+            return [-22]
+        if not self.starts:
+            return [-6]
+        if number == 19:
+            return [optimum(self.starts, self.targets + [target])]
+        before = played(walk, self.starts, self.targets)[0]
+        after, moved = walk(before, target)
+        if number == 18:
+            return [moved] + after
+        numbers = [each for each, (old, new) in enumerate(zip(before, after)) if old != new]
+        return [len(numbers)] + numbers
+
+    def suppose(self, number, given):
+        if number == 22:
+            if given not in range(len(self.targets)):
+                return [-2]
+            rest = [target for index, target in enumerate(self.targets) if index != given]
+            return [optimum(self.starts, self.targets) - optimum(self.starts, rest), optimum(self.starts, rest)]
+        if given not in range(100):
+            return [-22]
+        if len(self.starts) == 3:
+            return [-28]
+        starts = self.starts + [given]
+        return [optimum(starts, self.targets), played(walk, starts, self.targets)[1]]
 
 
 def model_answers(calls):
